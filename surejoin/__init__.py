@@ -1,0 +1,1 @@
+"""Surejoin: many threads, boxes that only grow, one outcome."""
