@@ -1,6 +1,8 @@
-"""Small worlds of states: of each kind all states over a few numbers, closed under joins."""
+"""What several tests need: words by kinds, small worlds of states (closed under joins), expressions, refusals."""
 
 from itertools import combinations, product
+
+from surejoin.errors import JoinError
 
 KINDS = ("most", "set", "once", "row", "map")
 TOP = 999999999
@@ -43,3 +45,38 @@ def long_state(word, length):
     if word == "row":
         return [3 * (length - n) for n in range(length)]
     return [3 * n for n in range(length)]
+
+
+WORKINGS = ("+", "-", "*", "div", "rem", "<", "=")
+KEPT = """most set once row map job let put wait get tell if else while end begin stop ask least has many size held item
+div rem""".split()
+
+
+def refusal(call, *handed):
+    """The class of what a call is refused with, None where it isn't refused."""
+    try:
+        call(*handed)
+    except JoinError as fault:
+        return type(fault)
+    return None
+
+
+def deep_texts(deep):
+    """Texts of expressions just so deep: on the left, on the right, on both sides, by looks, and by turns."""
+    if deep == 0:
+        return ["7", "x", "size b", "held b"]
+    left, right, both, looks, turns = "x", "x", "x", "x", "x"
+    for level in range(deep):
+        left, right, both = f"+ {left} 1", f"- 1 {right}", f"* {both} {both}"
+        looks = f"item b {looks}"
+        turns = f"has b {turns}" if level % 2 else f"div {turns} size b"
+    return [left, right, both, looks, turns]
+
+
+def plain_parts(thing):
+    """The classes of all that is in a thing, itself first; what is equal may still be of another class."""
+    told = [type(thing)]
+    if isinstance(thing, (list, tuple)):
+        for part in thing:
+            told.append(plain_parts(part))
+    return told

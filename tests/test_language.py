@@ -20,6 +20,9 @@ isupper items join keys ljust lower lstrip partition pop remove replace reverse 
 setdefault split splitlines startswith strip update upper values zfill bit_length""".split()
 WORDS = """type typing typing_extensions enum Enum IntEnum StrEnum Flag IntFlag Generic Protocol ABC ABCMeta namedtuple
 NamedTuple TypedDict TYPE_CHECKING abstractmethod""".split()
+NOWHERE = """register mro elements open input version_info with_traceback add_note format format_map""".split()
+NO_VALUES = """items keys values pop update append clear extend insert remove reverse setdefault sort args
+encode""".split()
 SPECIAL = ("__init__", "__eq__", "__repr__", "__str__", "__len__")
 TOP_NODES = (ast.ImportFrom, ast.FunctionDef, ast.ClassDef, ast.Assign)
 
@@ -107,6 +110,25 @@ def faults_of_node(node):
         yield "L7 a list comprehension of more than one for or if"
 
 
+def faults_of_values(tree, methods):
+    for node in ast.walk(tree):
+        name = node.id if isinstance(node, ast.Name) else node.attr if isinstance(node, ast.Attribute) else ""
+        if name in NOWHERE:
+            yield f"L17 the name {name}"
+        if isinstance(node, ast.Attribute) and isinstance(node.ctx, ast.Store):
+            if name in methods:
+                yield f"L18 {name} is a method and a value"
+            if name in NO_VALUES:
+                yield f"L26 a value called {name}"
+        if isinstance(node, ast.Call) and isinstance(node.func, ast.Attribute) and node.keywords:
+            yield f"L22 a keyword at {node.func.attr}"
+    for node in tree.body:
+        if isinstance(node, ast.Assign) and isinstance(node.value, (ast.List, ast.Dict)):
+            within = list(ast.walk(node.value))[1:]
+            if any(isinstance(part, (ast.List, ast.Dict, ast.Set)) for part in within):
+                yield f"L15 a list or dict within that of line {node.lineno}"
+
+
 def faults_of_top(tree, files):
     for place, node in enumerate(tree.body):
         is_docstring = place == 0 and isinstance(node, ast.Expr) and isinstance(node.value, ast.Constant)
@@ -129,7 +151,13 @@ def own_methods(trees):
 def faults(text, methods, files):
     tree = ast.parse(text)
     told = list(faults_of_text(text)) + list(faults_of_names(tree, methods)) + list(faults_of_top(tree, files))
+    told += list(faults_of_values(tree, methods))
     return told + [fault for node in ast.walk(tree) for fault in faults_of_node(node)]
+
+
+def top_names(tree):
+    named = [node.name for node in tree.body if isinstance(node, (ast.FunctionDef, ast.ClassDef))]
+    return named + [node.targets[0].id for node in tree.body if isinstance(node, ast.Assign)]
 
 
 def drawn_from(tree):
@@ -162,6 +190,23 @@ class TestLanguage(unittest.TestCase):
             self.assertTrue(free, f"a ring among {sorted(left)}")
             left = {name: drawn for name, drawn in left.items() if name not in free}
 
+    def test_each_name_is_drawn_from_the_file_that_defines_it(self):
+        for name, tree in self.trees.items():
+            self.assertEqual(len(set(top_names(tree))), len(top_names(tree)), name)
+            for node in tree.body:
+                if isinstance(node, ast.ImportFrom):
+                    there = top_names(self.trees[node.module.split(".")[1]])
+                    for alias in node.names:
+                        self.assertIn(alias.name, there, name)
+                        self.assertIsNone(alias.asname, name)
+
+    def test_each_name_that_is_drawn_is_used(self):
+        for name, tree in self.trees.items():
+            used = [node.id for node in ast.walk(tree) if isinstance(node, ast.Name)]
+            for node in tree.body:
+                if isinstance(node, ast.ImportFrom):
+                    self.assertEqual([alias.name for alias in node.names if alias.name not in used], [], name)
+
     def test_faults_are_found(self):
         for text in (
             "import sys\n", "from os import path\n", "from surejoin.sums import *\n", "print(1)\n", "x = 1.5\n",
@@ -171,13 +216,16 @@ class TestLanguage(unittest.TestCase):
             "class A:\n    x = 1\n", "class A(B, C):\n    pass\n", "# the type of it\n", "x = '5 %'\n", "\tx = 1\n",
             "def f():\n    return {x for x in [1]}\n", "def f():\n    yield 1\n", "def f(x):\n    assert x\n",
             "# " + "x" * 120 + "\n", "# \u00e9\n", "def f():\n" + "    pass\n" * 40, "x = 1\n" * 401,
+            "def f(x):\n    x.open = 1\n", "def f(x):\n    x.items = 1\n", "def f(x):\n    return x.split(sep=' ')\n",
+            "x = {1: [2]}\n", "x = [{}]\n", "x = [(1, [2])]\n",
+            "class A:\n    def f(self):\n        self.g = 1\n\n    def g(self):\n        pass\n",
             "def f():\n    pass\n\n\ndef f():\n    pass\n", "class A:\n    def f(self):\n        pass\n\n" * 2,
         ):
             with self.subTest(text=text[:60]):
                 if text.startswith("\t"):
                     self.assertTrue(list(faults_of_text(text)))
                 else:
-                    self.assertTrue(faults(text, [], ["sums"]))
+                    self.assertTrue(faults(text, own_methods([ast.parse(text)]), ["sums"]))
 
 
 if __name__ == "__main__":
