@@ -1,14 +1,15 @@
 """Single lines of a program: which there are, how each is written by words, and shown so again."""
 
 from surejoin.errors import NoLine
-from surejoin.words import check_over, shown_expression, taken_expression, taken_name, words_of
+from surejoin.words import check_over, looks_in, shown_expression, taken_expression, taken_name, words_of
 
 MOST_IN_A_ROW = 4
 WAIT_WORDS = ("least", "has", "many")
 
 # By the first word of each line, what stands behind it: a name, names (none to four), a wait's word, an expression,
 # perhaps one, some (one to four) or few (none to four). A line that was read is a tuple of its word, its number and
-# these parts, so that a line without other lines in it is already its statement.
+# these parts, so that a line without other lines in it is already its statement; an if's or a while's statement holds
+# the lines in it behind these, and they don't count where a line alone is gone through or shown.
 PARTS = {
     "most": ("name",),
     "set": ("name",),
@@ -80,19 +81,33 @@ def read_line(text, number):
     return line
 
 
+def expressions_in(part, thing):
+    if part == "some" or part == "few":
+        return list(thing)
+    if part == "expression" or part == "perhaps":
+        return [] if thing is None else [thing]
+    return []
+
+
+def looks_of(line):
+    """All looks of a line from left to right."""
+    looks = []
+    for part, thing in zip(PARTS[line[0]], line[2:]):
+        for E in expressions_in(part, thing):
+            looks.extend(looks_in(E))
+    return looks
+
+
 def shown_part(part, thing):
     if part == "name" or part == "word":
         return [thing]
     if part == "names":
         return list(thing)
-    if part == "some" or part == "few":
-        return [shown_expression(E) for E in thing]
-    return [] if thing is None else [shown_expression(thing)]
+    return [shown_expression(E) for E in expressions_in(part, thing)]
 
 
 def shown_line(line):
     words = [line[0]]
-    # What a statement holds behind its line's own parts, the lines in it, is left out here.
     for part, thing in zip(PARTS[line[0]], line[2:]):
         words.extend(shown_part(part, thing))
     return " ".join(words)

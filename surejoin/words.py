@@ -90,6 +90,14 @@ def parts_of(E):
     return E[1:] if E[0] in WORKINGS else ()
 
 
+def looks_in(E):
+    """All looks of an expression from left to right, each ahead of those within it."""
+    looks = [E] if E[0] in LOOKS else []
+    for part in parts_of(E):
+        looks.extend(looks_in(part))
+    return looks
+
+
 def shown_expression(E):
     if E[0] == "num" or E[0] == "name":
         return str(E[1])

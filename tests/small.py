@@ -80,3 +80,40 @@ def plain_parts(thing):
         for part in thing:
             told.append(plain_parts(part))
     return told
+
+
+# Places of an expression in a program, which stands behind the lines of four boxes.
+EXPRESSION_PLACES = [
+    "job main\nlet x {}\nend",
+    "job main\nput m {}\nend",
+    "job main\nput r 1 {}\nend",
+    "job main\nput r 1 2 3 {}\nend",
+    "job main\nput p {} 1\nend",
+    "job main\nwait m least {}\nend",
+    "job main\nget x r {}\nend",
+    "job main\ntell {}\nend",
+    "job main\nif {}\nend\nend",
+    "job main\nif {}\nelse\nend\nend",
+    "job main\nif 1\ntell {}\nend\nend",
+    "job main\nif 1\nelse\ntell {}\nend\nend",
+    "job main\nif 1\nelse\nif {}\nend\nend\nend",
+    "job main\nwhile {}\nend\nend",
+    "job main\nwhile 1\nstop\ntell {}\nend\nend",
+    "job main\nwhile 1\nwhile 1\nif 1\nelse\nwhile {}\nend\nend\nend\nend\nend",
+    "job main\nend\njob f\nlet x {}\nend",
+    "job f a\nend\njob main\nbegin f {} 1\nend",
+    "job f a\nend\njob main\nbegin f 1 {}\nend",
+    "job f a b c d\nend\njob main\nbegin f 1 2 3 4 {}\nend",
+    "job main\nstop\ntell {}\nend",
+    "job main\nend\nask {}",
+    "job main\nend\nask 1\nask {}",
+]
+FOUR_BOXES = "once o\nrow r\nmap p\nmost m\n"
+
+
+def around(look):
+    """A look by itself and within other expressions."""
+    told = [look, f"has p {look}", f"item r {look}", f"item r item r {look}", f"+ size r {look}"]
+    for word in WORKINGS:
+        told += [f"{word} {look} 1", f"{word} 1 {look}"]
+    return told + [f"+ 1 + 1 + 1 + 1 {look}", f"+ + + + {look} 1 1 1 1"]
