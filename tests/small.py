@@ -1,4 +1,5 @@
-"""What several tests need: words by kinds, small worlds of states (closed under joins), expressions, refusals."""
+"""What several tests need: words by kinds, small worlds of states (closed under joins), expressions, refusals, programs
+that are drawn by a fixed rule."""
 
 from itertools import combinations, product
 
@@ -117,3 +118,92 @@ def around(look):
     for word in WORKINGS:
         told += [f"{word} {look} 1", f"{word} 1 {look}"]
     return told + [f"+ 1 + 1 + 1 + 1 {look}", f"+ + + + {look} 1 1 1 1"]
+
+
+class Draw:
+    """Draws by a fixed rule: of one seed always the same."""
+
+    def __init__(self, seed):
+        self.now = seed * 7919 + 12345
+        for _ in range(3):
+            self.below(2)
+
+    def below(self, count):
+        self.now = (self.now * 6364136223846793005 + 1442695040888963407) % 2 ** 64
+        return (self.now >> 33) % count
+
+    def one_of(self, things):
+        return things[self.below(len(things))]
+
+
+def drawn_expression(draw, deep, names=("x", "y", "a", "b", "i")):
+    choice = draw.below(10)
+    if deep == 0 or choice < 4:
+        return str(draw.below(4))
+    if choice < 7:
+        return draw.one_of(names)
+    word = draw.one_of(("+", "-", "*", "+", "<", "=", "div", "rem"))
+    return f"{word} {drawn_expression(draw, deep - 1, names)} {drawn_expression(draw, deep - 1, names)}"
+
+
+def drawn_put(draw, tame):
+    """A put to one of five boxes; tame ones always fit together."""
+    box = draw.one_of("msorp")
+    E = drawn_expression(draw, 1)
+    if box == "o":
+        return "put o 5" if tame else f"put o {draw.one_of((5, 5, 5, 6, E))}"
+    if box == "r":
+        numbers = [3, 1, 3, 2] if tame else [3, draw.one_of((1, 1, 1, E)), 3, 2]
+        return "put r " + " ".join(str(n) for n in numbers[:1 + draw.below(4)])
+    if box == "p":
+        return f"put p {E} 4" if tame else f"put p {E} {draw.one_of((4, 4, E))}"
+    return f"put {box} {E}"
+
+
+def drawn_wait(draw):
+    E = drawn_expression(draw, 1)
+    return draw.one_of((
+        f"wait m least {E}", f"wait s has {E}", f"wait p has {E}", f"wait {draw.one_of('msorp')} many {E}",
+        "get x o", f"get y r {E}", f"get x p {E}",
+    ))
+
+
+def drawn_body(draw, tame, room, name):
+    lines = []
+    for _ in range(1 + draw.below(5)):
+        choice = draw.below(20)
+        E = drawn_expression(draw, 2)
+        if choice < 2:
+            lines.append(f"let {draw.one_of('xyi')} {E}")
+        elif choice < 7:
+            lines.append(drawn_put(draw, tame))
+        elif choice < 11:
+            lines.append(drawn_wait(draw))
+        elif choice < 13:
+            lines.append(f"tell {E}")
+        elif choice < 15:
+            steps = draw.one_of(("0", "3", "10", "30", "400", E))
+            called = draw.one_of(("f", "g", "h"))
+            handed = [drawn_expression(draw, 1) for _ in range("hfg".index(called))]
+            lines.append(" ".join(["begin", called, steps] + handed))
+        elif choice < 17 and room:
+            lines += [f"if {E}"] + drawn_body(draw, tame, room - 1, name)
+            if draw.below(2):
+                lines += ["else"] + drawn_body(draw, tame, room - 1, name)
+            lines.append("end")
+        elif choice < 19 and room:
+            lines += [f"while < {name} {draw.below(4)}"] + drawn_body(draw, tame, room - 1, chr(ord(name) + 1))
+            lines += [f"let {name} + {name} 1", "end"]
+        elif choice == 19 and draw.below(3) == 0:
+            lines.append("stop")
+    return lines
+
+
+def drawn_text(seed, tame=True):
+    """The text of a program that is let: five boxes, four jobs, an ask of each look."""
+    draw = Draw(seed)
+    lines = ["most m", "set s", "once o", "row r", "map p"]
+    for head in draw.one_of((("main", "f a", "g a b", "h"), ("h", "g b a", "main", "f x"))):
+        lines += [f"job {head}"] + drawn_body(draw, tame, 2, "i") + ["end"]
+    asks = ["ask size m", "ask held o", "ask has s 1", "ask item p 1", "ask div item r 0 held o"]
+    return "\n".join(lines + asks)
