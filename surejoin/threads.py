@@ -48,6 +48,8 @@ class Thread:
         self.left = steps
         self.used = 0
         self.told = []
+        # How many threads it began: the next one is called by that number.
+        self.begun = 0
         # None as long as it hasn't ended, then its word and line.
         self.end = None
         self.go_to(0)

@@ -142,7 +142,7 @@ def drawn_expression(draw, deep, names=("x", "y", "a", "b", "i")):
         return str(draw.below(4))
     if choice < 7:
         return draw.one_of(names)
-    word = draw.one_of(("+", "-", "*", "+", "<", "=", "div", "rem"))
+    word = draw.one_of(("+", "-", "*", "+", "<", "=", "+", "*", "<", "div", "rem"))
     return f"{word} {drawn_expression(draw, deep - 1, names)} {drawn_expression(draw, deep - 1, names)}"
 
 
@@ -168,33 +168,37 @@ def drawn_wait(draw):
     ))
 
 
+def drawn_begin(draw):
+    steps = draw.one_of(("0", "3", "10", "30", "30", "60", "400", drawn_expression(draw, 1)))
+    called = draw.one_of("fgh")
+    handed = [drawn_expression(draw, 1) for _ in range("hfg".index(called))]
+    return " ".join(["begin", called, steps] + handed)
+
+
 def drawn_body(draw, tame, room, name):
     lines = []
-    for _ in range(1 + draw.below(5)):
-        choice = draw.below(20)
+    for _ in range(2 + draw.below(5)):
+        choice = draw.below(24)
         E = drawn_expression(draw, 2)
-        if choice < 2:
+        if choice < 3:
             lines.append(f"let {draw.one_of('xyi')} {E}")
-        elif choice < 7:
-            lines.append(drawn_put(draw, tame))
         elif choice < 11:
+            lines.append(drawn_put(draw, tame))
+        elif choice < 14:
             lines.append(drawn_wait(draw))
-        elif choice < 13:
+        elif choice < 17:
             lines.append(f"tell {E}")
-        elif choice < 15:
-            steps = draw.one_of(("0", "3", "10", "30", "400", E))
-            called = draw.one_of(("f", "g", "h"))
-            handed = [drawn_expression(draw, 1) for _ in range("hfg".index(called))]
-            lines.append(" ".join(["begin", called, steps] + handed))
-        elif choice < 17 and room:
+        elif choice < 19:
+            lines.append(drawn_begin(draw))
+        elif choice < 21 and room:
             lines += [f"if {E}"] + drawn_body(draw, tame, room - 1, name)
             if draw.below(2):
                 lines += ["else"] + drawn_body(draw, tame, room - 1, name)
             lines.append("end")
-        elif choice < 19 and room:
+        elif choice < 23 and room:
             lines += [f"while < {name} {draw.below(4)}"] + drawn_body(draw, tame, room - 1, chr(ord(name) + 1))
             lines += [f"let {name} + {name} 1", "end"]
-        elif choice == 19 and draw.below(3) == 0:
+        elif choice == 23 and draw.below(3) == 0:
             lines.append("stop")
     return lines
 
@@ -204,6 +208,8 @@ def drawn_text(seed, tame=True):
     draw = Draw(seed)
     lines = ["most m", "set s", "once o", "row r", "map p"]
     for head in draw.one_of((("main", "f a", "g a b", "h"), ("h", "g b a", "main", "f x"))):
-        lines += [f"job {head}"] + drawn_body(draw, tame, 2, "i") + ["end"]
+        begins = [drawn_begin(draw) for _ in range(1 + draw.below(4))] if head == "main" else []
+        lines += [f"job {head}"] + begins + drawn_body(draw, tame, 2, "i") + ["end"]
     asks = ["ask size m", "ask held o", "ask has s 1", "ask item p 1", "ask div item r 0 held o"]
-    return "\n".join(lines + asks)
+    # One that is too long gives way to another one.
+    return "\n".join(lines + asks) if len(lines + asks) <= 150 else drawn_text(seed + 100000, tame)
